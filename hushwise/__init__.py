@@ -1,0 +1,1 @@
+"""Hushwise: who may hear what a program tells."""
