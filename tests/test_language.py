@@ -138,7 +138,7 @@ class Language(unittest.TestCase):
             if isinstance(node, ast.Compare):
                 for operator, right in zip(node.ops, node.comparators):
                     if isinstance(operator, (ast.Is, ast.IsNot)):
-                        self.assertIn(getattr(right, "value", 0), (None, True, False))
+                        self.assertIn(ast.unparse(right), ("None", "True", "False"))
 
     def test_functions(self):
         for path, node in self.each_node(ast.FunctionDef):
