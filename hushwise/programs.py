@@ -99,24 +99,26 @@ def spends(row):
     return any([inner[0] in ("while", "call") for inner in in_order([row])])
 
 
+def head_pairs(program):
+    """Tuples (name, rank) of the boxes, functions and parameters, as often as they stand there."""
+    told = [(name, rank) for name, size, rank in program[0]]
+    for name, rank, params, rows in program[2]:
+        told.append((name, rank))
+        told.extend([(param, known) for param, known in params])
+    return told
+
+
 def head_names(program):
     """The names of the boxes, functions and parameters, as often as they stand there."""
-    names = [name for name, size, rank in program[0]]
-    for name, rank, params, rows in program[2]:
-        names.append(name)
-        names.extend([param for param, told in params])
-    return names
+    return [name for name, rank in head_pairs(program)]
 
 
 def head_ranks(program):
     """The ranks that the boxes, grants, functions and parameters are told with."""
-    ranks = [rank for name, size, rank in program[0]]
+    ranks = [rank for name, rank in head_pairs(program) if rank is not None]
     for who, high, low in program[1]:
         ranks.extend([high, low])
-    for name, rank, params, rows in program[2]:
-        ranks.append(rank)
-        ranks.extend([told for param, told in params])
-    return [rank for rank in ranks if rank is not None]
+    return ranks
 
 
 def granted(program):

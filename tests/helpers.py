@@ -1,6 +1,9 @@
-"""What several tests need: a sample with its text, made-up programs, and a look for shared lists."""
+"""What several tests need: a sample with its text, made-up orders and programs, and a look for shared lists."""
 
 import copy
+
+from hushwise.orders import Order
+from hushwise.texts import read
 
 SAMPLE_TEXT = """ranks low mid high
 under low mid
@@ -76,6 +79,17 @@ def sample_program():
     return (boxes, grants, functions, rows)
 
 
+def made_of(*lines):
+    """The order and the program of a text's lines."""
+    names, pairs, program = read("\n".join(lines))
+    return (Order(names, pairs), program)
+
+
+def program_of(*lines):
+    """The program of lines behind those of a low and a high rank, and of ann, who may let out anything."""
+    return made_of("ranks low high", "under low high", "may ann high low", *lines)[1]
+
+
 def lists_in(told):
     """Every list and dict within what is told, itself too, each as often as it stands there."""
     found = []
@@ -90,9 +104,13 @@ def lists_in(told):
 
 
 def spoil(told):
-    """Change every list within what is told."""
+    """Change every list and dict within what is told."""
     for one in lists_in(told):
-        one.append("spoilt")
+        if isinstance(one, dict):
+            one.clear()
+            one["spoilt"] = "spoilt"
+        else:
+            one.append("spoilt")
 
 
 def own_lists(case, told, *handed):
@@ -165,3 +183,85 @@ def made_telling(chance):
         params = [(chance.choice(NAMES), made_rank(chance)) for j in range(chance.randrange(4))]
         functions.append((chance.choice(NAMES), made_rank(chance), params, made_rows(chance, 2)))
     return (names, pairs, (boxes, grants, functions, made_rows(chance, 4)))
+
+
+ORDERS = [
+    (["one"], []),
+    (["low", "high"], [("low", "high"), ("high", "high")]),
+    (SAMPLE_NAMES, SAMPLE_PAIRS),
+    (["top", "left", "right", "least"], [("least", "left"), ("least", "right"), ("left", "top"), ("right", "top")]),
+    (["o", "a", "b", "c", "i"], [("o", "a"), ("a", "b"), ("b", "i"), ("o", "c"), ("c", "i")]),
+    (["o", "a", "b", "c", "ab", "ac", "bc", "abc"],
+     [("o", "a"), ("o", "b"), ("o", "c"), ("a", "ab"), ("a", "ac"), ("b", "ab"), ("b", "bc"), ("c", "ac"), ("c", "bc"),
+      ("ab", "abc"), ("ac", "abc"), ("bc", "abc")]),
+]
+
+
+class Maker:
+    """Makes up programs that have no faults, of names that are also words of the program's texts and kinds."""
+
+    def __init__(self, chance, ranks):
+        self.chance = chance
+        self.ranks = ranks
+        self.names = list("abcdefghijklmnopqrstuvwxyz") + ["num", "box", "set", "end", "enter", "leave", "out", "let"]
+        chance.shuffle(self.names)
+
+    def rank(self, told):
+        """A rank, or None as often as the share of told ones leaves it."""
+        return self.chance.choice(self.ranks) if self.chance.random() < told else None
+
+    def program(self, told=0.5):
+        counts = [self.chance.randrange(count) for count in (5, 3, 3, 4)]
+        ones = [(self.names.pop(), 0, self.rank(told)) for k in range(counts[0])]
+        lists = [(self.names.pop(), self.chance.choice([1, 2, 8]), self.rank(told)) for k in range(counts[1])]
+        boxes = ones + lists
+        self.chance.shuffle(boxes)
+        grants = [(self.names[k], self.chance.choice(self.ranks), self.chance.choice(self.ranks)) for k in range(counts[2])]
+        heads = []
+        for k in range(counts[3]):
+            params = [(self.names.pop(), self.rank(told)) for j in range(self.chance.choice([0, 1, 1, 2, 4]))]
+            heads.append((self.names.pop(), self.rank(told), params))
+        self.lists = [name for name, size, rank in lists]
+        self.whos = [grant[0] for grant in grants]
+        self.heads = heads
+        ones = [name for name, size, rank in ones]
+        functions = []
+        for name, rank, params in heads:
+            functions.append((name, rank, params, self.rows(ones + [name] + [one[0] for one in params], 2)))
+        return (boxes, grants, functions, self.rows(ones, 3))
+
+    def expression(self, ones, deep):
+        kind = self.chance.choice(["num", "box", "box"] + ["@", "+", "-", "*", "<", "="] * (deep > 1))
+        if kind == "box" and ones:
+            return box(self.chance.choice(ones))
+        if kind == "@" and self.lists:
+            return ("@", self.chance.choice(self.lists), self.expression(ones, deep - 1))
+        if kind in ("num", "box", "@"):
+            return num(self.chance.choice([0, 0, 1, 2, 7, 999999999999]))
+        return (kind, self.expression(ones, deep - 1), self.expression(ones, deep - 1))
+
+    def rows(self, ones, deep):
+        return [self.row(ones, deep) for k in range(self.chance.randrange(4))]
+
+    def row(self, ones, deep):
+        """A row of a kind for which there is what it needs, a block without rows where there is nothing."""
+        kind = self.chance.choice(["set", "put", "out", "call", "if", "while"])
+        guard = self.expression(ones, 3)
+        if kind == "put" and self.lists:
+            return ("put", self.chance.choice(self.lists), self.expression(ones, 2), guard)
+        if kind == "out" and self.whos and ones:
+            return ("out", self.chance.choice(ones), guard, self.chance.choice(self.whos))
+        if kind == "call" and self.heads and ones:
+            name, rank, params = self.chance.choice(self.heads)
+            return ("call", self.chance.choice(ones), name, [self.expression(ones, 2) for param in params])
+        if kind == "while":
+            return ("while", guard, self.rows(ones, deep - 1) if deep else [])
+        if kind == "if" or not ones:
+            return ("if", guard, self.rows(ones, deep - 1) if deep else [], self.rows(ones, deep - 1) if deep else [])
+        return ("set", self.chance.choice(ones), guard)
+
+    def values(self, program):
+        """An input of a program."""
+        numbers = [0, 0, 1, 2, 3, 7, 8, 999999999999]
+        return [self.chance.choice(numbers) if size == 0 else self.chance.choices(numbers, k=size)
+                for name, size, rank in program[0]]
