@@ -19,14 +19,17 @@ def told_ranks(order, program):
     return told
 
 
-def found(order, program):
-    """A dict from each node to its found rank."""
-    told = told_ranks(order, program)
+def at_first(order, program, told):
+    """A dict from each node to its rank in told, or the least rank where it has none there."""
     ranks = {}
     for node in nodes(program):
         ranks[node] = told.get(node, order.least())
-    # A told node hands on its own rank alone, so what comes to it is not followed any further.
-    some = [rule for rule in rules(program) if rule[4] not in told]
+    return ranks
+
+
+def spread(order, start, some):
+    """The least ranks that those of start are under and by which the from of each of some rules is under its to."""
+    ranks = dict(start)
     grown = True
     while grown:
         grown = False
@@ -36,6 +39,14 @@ def found(order, program):
                 ranks[rule[4]] = rank
                 grown = True
     return ranks
+
+
+def found(order, program):
+    """A dict from each node to its found rank."""
+    told = told_ranks(order, program)
+    # A told node hands on its own rank alone, so what comes to it is not followed any further.
+    some = [rule for rule in rules(program) if rule[4] not in told]
+    return spread(order, at_first(order, program, told), some)
 
 
 def broken(order, program):

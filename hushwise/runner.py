@@ -28,15 +28,25 @@ def refuse_input(program, values):
             raise NoInput(f"the box {name!r} can't hold what is handed in for it")
 
 
+def filled(program, values):
+    """A dict from the name of each of a program's boxes to what an input lays into it."""
+    boxes = {}
+    for box, thing in zip(program[0], values):
+        boxes[box[0]] = list(thing) if isinstance(thing, list) else thing
+    return boxes
+
+
+def emptied(program, boxes):
+    """What a dict of boxes holds for those of a program, as an input tells it."""
+    return [boxes[name] for name, size, rank in program[0]]
+
+
 class Running:
     """A run on its way: what the boxes hold, what is left of the budget, what is due, and the moments so far."""
 
     def __init__(self, program, values, budget):
-        boxes = {}
-        for box, thing in zip(program[0], values):
-            boxes[box[0]] = list(thing) if isinstance(thing, list) else thing
         self.plan = Plan(program)
-        self.boxes = boxes
+        self.boxes = filled(program, values)
         # The own boxes of each call that has not come back, the innermost last; those of main, none, come first.
         self.own = [{}]
         self.budget = budget
@@ -155,13 +165,18 @@ def gone_through(program, values, budget):
     return running
 
 
+def record_of(moments):
+    """The list of the events (row, name, place, value) of some moments."""
+    record = []
+    for row, time, events in moments:
+        record.extend([(row, name, place, value) for name, place, value in events])
+    return record
+
+
 def run(program, values, budget):
     """A run as a tuple (word, record, values); refuses with NoInput."""
     running = gone_through(program, values, budget)
-    record = []
-    for row, time, events in running.moments:
-        record.extend([(row, name, place, value) for name, place, value in events])
-    return (running.word, record, [running.boxes[name] for name, size, rank in program[0]])
+    return (running.word, record_of(running.moments), emptied(program, running.boxes))
 
 
 def traced(program, values, budget):

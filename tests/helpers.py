@@ -3,6 +3,7 @@
 import copy
 
 from hushwise.orders import Order
+from hushwise.rules import rules
 from hushwise.texts import read
 
 SAMPLE_TEXT = """ranks low mid high
@@ -47,6 +48,11 @@ end"""
 SAMPLE_NAMES = ["low", "mid", "high"]
 
 SAMPLE_PAIRS = [("low", "mid"), ("mid", "high")]
+
+# The first lines of texts.
+CHAIN = ("ranks low mid high", "under low mid", "under mid high", "may ann high low", "may bob mid low")
+
+DIAMOND = ("ranks top left right least", "under least left", "under least right", "under left top", "under right top")
 
 
 def num(n):
@@ -265,3 +271,51 @@ class Maker:
         numbers = [0, 0, 1, 2, 3, 7, 8, 999999999999]
         return [self.chance.choice(numbers) if size == 0 else self.chance.choices(numbers, k=size)
                 for name, size, rank in program[0]]
+
+
+class Busy(Maker):
+    """Makes up programs in which much is done, many an out among it, by whoever may let out all."""
+
+    def __init__(self, chance, order):
+        Maker.__init__(self, chance, order.ranks())
+        self.all = (order.greatest(), order.least())
+
+    def program(self, told=0.5):
+        ones = [self.names.pop() for k in range(4)]
+        self.lists = [self.names.pop()]
+        self.whos = ["who", "who", "any"]
+        self.heads = [(self.names.pop(), self.rank(told), [(self.names.pop(), self.rank(told))]) for k in range(2)]
+        boxes = [(name, 0, self.rank(told)) for name in ones] + [(self.lists[0], 2, self.rank(told))]
+        grants = [("who",) + self.all, ("any", self.chance.choice(self.ranks), self.chance.choice(self.ranks))]
+        functions = [head + (self.rows(ones + [head[0], head[2][0][0]], 1),) for head in self.heads]
+        return (boxes, grants, functions, self.rows(ones, 2))
+
+    def rows(self, ones, deep):
+        outs = [("out", self.chance.choice(ones), self.expression(ones, 2), "who") for k in range(self.chance.randrange(2))]
+        return outs + [self.row(ones, deep) for k in range(self.chance.randrange(1, 4))]
+
+    def values(self, program):
+        return [self.chance.randrange(3) if size == 0 else self.chance.choices([0, 1, 2], k=size)
+                for name, size, rank in program[0]]
+
+
+def made_up(chance, told=0.5, busy=False):
+    """An order, a program that fits it, with a share of told ranks, and its maker."""
+    names, pairs = chance.choice(ORDERS)
+    order = Order(names, pairs)
+    maker = Busy(chance, order) if busy else Maker(chance, names)
+    return order, maker.program(told), maker
+
+
+def is_road(case, program, told, way):
+    """That a list of rules is a road of a program with such told nodes."""
+    case.assertIsInstance(way, list)
+    case.assertTrue(way)
+    case.assertLessEqual(set(way), set(rules(program)))
+    for one, following in zip(way, way[1:]):
+        case.assertEqual(one[4], following[3])
+    met = [rule[4] for rule in way]
+    case.assertIn(way[0][3], told)
+    case.assertFalse(set(met[:-1]) & set(told))
+    case.assertEqual(len(met), len(set(met)))
+    case.assertNotIn(way[0][3], met[:-1])

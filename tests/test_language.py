@@ -72,7 +72,7 @@ class Language(unittest.TestCase):
                     yield path, node
 
     def test_files(self):
-        self.assertGreaterEqual(len(FILES), 10)
+        self.assertGreaterEqual(len(FILES), 14)
         for path in FOLDER.iterdir():
             if path.name != "__pycache__":
                 self.assertRegex(path.name, r"\A[a-z_0-9]+\.py\Z")

@@ -1,19 +1,11 @@
 import random
 import unittest
 
-from helpers import keeps_to_itself, made_of, Maker, ORDERS, program_of, sample_program, SAMPLE_NAMES, SAMPLE_PAIRS
+from helpers import CHAIN, DIAMOND, is_road, keeps_to_itself, made_of, made_up, program_of
+from helpers import sample_program, SAMPLE_NAMES, SAMPLE_PAIRS
 from hushwise.looker import broken, found, lets_by, reasons, road, told_ranks
 from hushwise.orders import Order
 from hushwise.rules import nodes, rules
-from hushwise.runner import run
-
-CHAIN = ("ranks low mid high", "under low mid", "under mid high", "may ann high low", "may bob mid low")
-DIAMOND = ("ranks top left right least", "under least left", "under least right", "under left top", "under right top")
-
-
-def made_up(chance, told=0.5):
-    names, pairs = chance.choice(ORDERS)
-    return Order(names, pairs), Maker(chance, names).program(told)
 
 
 def roads_from(some, told, begin):
@@ -47,24 +39,11 @@ def reached(some, told):
 
 
 class Looking(unittest.TestCase):
-    def is_road(self, program, told, way):
-        """That a list of rules is a road."""
-        self.assertIsInstance(way, list)
-        self.assertTrue(way)
-        self.assertLessEqual(set(way), set(rules(program)))
-        for one, following in zip(way, way[1:]):
-            self.assertEqual(one[4], following[3])
-        met = [rule[4] for rule in way]
-        self.assertIn(way[0][3], told)
-        self.assertFalse(set(met[:-1]) & set(told))
-        self.assertEqual(len(met), len(set(met)))
-        self.assertNotIn(way[0][3], met[:-1])
-
     def is_road_to(self, order, program, rule):
         """That a right road is told to a broken rule."""
         told = told_ranks(order, program)
         way = road(order, program, rule)
-        self.is_road(program, told, way)
+        is_road(self, program, told, way)
         self.assertEqual(way[-1], rule)
         self.assertIn(rule[4], told)
         self.assertFalse(order.under(told[way[0][3]], told[rule[4]]))
@@ -79,7 +58,7 @@ class Looking(unittest.TestCase):
             self.assertEqual(ways, [])
             return ways
         for way in ways:
-            self.is_road(program, told, way)
+            is_road(self, program, told, way)
             self.assertEqual(way[-1][4], node)
         ranks = [told[way[0][3]] for way in ways]
         self.assertEqual(len(ranks), len(set(ranks)))
@@ -213,7 +192,7 @@ class Found(Looking):
         chance = random.Random(21)
         looked = 0
         while looked < 120:
-            order, program = made_up(chance)
+            order, program, maker = made_up(chance)
             some = rules(program)
             if len(some) > 16:
                 continue
@@ -222,7 +201,7 @@ class Found(Looking):
             begins = {node: [] for node in nodes(program)}
             for begin in told:
                 for way in roads_from(some, told, begin):
-                    self.is_road(program, told, way)
+                    is_road(self, program, told, way)
                     begins[way[-1][4]].append(told[begin])
             wanted = {node: told.get(node, order.joined(ranks)) for node, ranks in begins.items()}
             self.assertEqual(found(order, program), wanted)
@@ -318,7 +297,7 @@ class MadeUp(Looking):
         chance = random.Random(22)
         by = []
         for turn in range(70):
-            order, program = made_up(chance, chance.choice([0.2, 0.5, 0.9]))
+            order, program, maker = made_up(chance, chance.choice([0.2, 0.5, 0.9]))
             told = told_ranks(order, program)
             leads = reached(rules(program), told)
             ranks = {node: told.get(node, order.joined([told[begin] for begin, end in leads if end == node]))
@@ -332,7 +311,7 @@ class MadeUp(Looking):
     def test_found_ranks_are_the_least_that_the_rules_allow(self):
         chance = random.Random(23)
         for turn in range(150):
-            order, program = made_up(chance)
+            order, program, maker = made_up(chance)
             told = told_ranks(order, program)
             ranks = {node: told.get(node, chance.choice(order.ranks() + [order.least()] * 9)) for node in nodes(program)}
             some = rules(program)
@@ -342,39 +321,6 @@ class MadeUp(Looking):
                         ranks[rule[4]] = order.join(ranks[rule[4]], ranks[rule[3]])
             for node, rank in found(order, program).items():
                 self.assertTrue(order.under(rank, ranks[node]))
-
-    def test_what_is_let_by_tells_nothing_more_than_it_may(self):
-        chance = random.Random(24)
-        parted = 0
-        for turn in range(500):
-            names, pairs = chance.choice(ORDERS[1:])
-            order = Order(names, pairs)
-            maker = Maker(chance, names)
-            program = maker.program()
-            if lets_by(order, program):
-                ranks = found(order, program)
-                for rank in names:
-                    parted += self.beside(order, program, maker, ranks, rank)
-        self.assertGreater(parted, 0)
-
-    def beside(self, order, program, maker, ranks, rank):
-        """That two runs of inputs that are alike up to a rank part for it at an out alone; whether they parted."""
-        one = maker.values(program)
-        heard = [order.under(ranks["box " + box[0]], rank) for box in program[0]]
-        other = [old if same else new for old, new, same in zip(one, maker.values(program), heard)]
-        budget = maker.chance.choice([1, 3, 20])
-        runs = [run(program, values, budget) for values in (one, other)]
-        shown = [[event for event in told[1] if order.under(ranks["box " + event[1]], rank)] for told in runs]
-        if shown[0] == shown[1]:
-            for same, old, new in zip(heard, runs[0][2], runs[1][2]):
-                self.assertTrue(not same or old == new)
-            self.assertTrue(runs[0][0] == runs[1][0] or not order.under(ranks["leave main"], rank))
-            return False
-        pairs = [both for both in zip(shown[0], shown[1]) if both[0] != both[1]]
-        self.assertTrue(pairs)
-        self.assertEqual(pairs[0][0][:3], pairs[0][1][:3])
-        self.assertIn(f"out {pairs[0][0][0]}", ranks)
-        return True
 
 
 class Own(unittest.TestCase):
@@ -392,7 +338,7 @@ class Own(unittest.TestCase):
     def test_made_up_programs(self):
         chance = random.Random(25)
         for turn in range(10):
-            self.kept(*made_up(chance))
+            self.kept(*made_up(chance)[:2])
 
     def test_what_is_told_of_one_question_changes_no_other(self):
         order, program = made_of(*CHAIN, "box a low", "box b ?", "box s high", "set b s", "set a b")
